@@ -1,0 +1,1 @@
+"""Pageback: back pages of a book, made, moved and set in columns."""
