@@ -67,6 +67,43 @@ def faults_of_top(tree):
         yield "L15 name bound twice"
 
 
+def faults_of_shadows(tree):
+    """L15: no parameter and no local is called like a class or an import of its file."""
+    taken = [node.name for node in tree.body if isinstance(node, ast.ClassDef)]
+    for node in tree.body:
+        if isinstance(node, ast.ImportFrom):
+            taken.extend(alias.asname or alias.name for alias in node.names)
+    for node in ast.walk(tree):
+        if isinstance(node, ast.arg) and node.arg in taken:
+            yield "L15 " + node.arg
+        if isinstance(node, ast.Name) and isinstance(node.ctx, ast.Store) and node.id in taken:
+            yield "L15 " + node.id
+
+
+def faults_of_imports(trees):
+    """L16: names come from the file that defines them, and no two files draw from one another."""
+    draws = {}
+    for name, tree in trees.items():
+        draws[name] = []
+        for node in tree.body:
+            if isinstance(node, ast.ImportFrom):
+                drawn = node.module.removeprefix("pageback.") + ".py"
+                draws[name].append(drawn)
+                own = defined_in(trees[drawn]) if drawn in trees else []
+                yield from ("L16 " + alias.name for alias in node.names if alias.name not in own)
+    for name in draws:
+        reached = list(draws[name])
+        for drawn in reached:
+            reached.extend(other for other in draws.get(drawn, []) if other not in reached)
+        if name in reached:
+            yield "L16 ring of " + name
+
+
+def defined_in(tree):
+    names = [node.name for node in tree.body if isinstance(node, (ast.FunctionDef, ast.ClassDef))]
+    return names + [node.targets[0].id for node in tree.body if isinstance(node, ast.Assign)]
+
+
 def is_text(node):
     return isinstance(node, ast.Expr) and isinstance(node.value, ast.Constant) and isinstance(node.value.value, str)
 
@@ -133,7 +170,7 @@ def methods_of(tree):
 
 def faults(source, own_methods=()):
     tree = ast.parse(source)
-    found = list(faults_of_signs(source)) + list(faults_of_top(tree))
+    found = list(faults_of_signs(source)) + list(faults_of_top(tree)) + list(faults_of_shadows(tree))
     for node in ast.walk(tree):
         if is_text(node) and node is not tree.body[0]:
             found.append("L6 text by itself")
@@ -154,6 +191,10 @@ class Package(unittest.TestCase):
         for name, source in sources.items():
             with self.subTest(name):
                 self.assertEqual(faults(source, own), [])
+
+    def test_imports(self):
+        trees = {path.name: ast.parse(path.read_text(encoding="utf-8")) for path in PACKAGE.glob("*.py")}
+        self.assertEqual(list(faults_of_imports(trees)), [])
 
 
 class Check(unittest.TestCase):
@@ -185,11 +226,24 @@ class Check(unittest.TestCase):
             "def told(a):\n    # type\n    return a", "def told(a):\n    'Words.'\n    return a",
             "def told(a):\n    return [b for b in a for c in b]", "class One:\n    many = 3",
             "def told(a):\n" + "    a = a + 1\n" * 40, "def told(a):\n    return '" + "a" * 120 + "'",
+            "from pageback.heads import rank\n\n\ndef told(rank):\n    return rank",
+            "from pageback.heads import rank\n\n\ndef told(a):\n    return [rank for rank in a]",
             "def told(a):\n    return a\t", "def told(a):\n    # \u00e4\n    return a",
         ]
         for source in sources:
             with self.subTest(source):
                 self.assertNotEqual(faults(source), [])
+
+    def test_finds_in_imports(self):
+        one = "from pageback.two import other\n\n\ndef told(a):\n    return other(a)"
+        two = "from pageback.three import told\n\n\ndef other(a):\n    return told(a)"
+        ring = {"one.py": one, "two.py": two, "three.py": one.replace("two", "one").replace("other", "told")}
+        borrowed = {"one.py": one.replace("other", "told"), "two.py": two, "three.py": "def told(a):\n    return a"}
+        missing = {"one.py": one}
+        right = {"one.py": one, "two.py": two, "three.py": "def told(a):\n    return a"}
+        for sources in (ring, borrowed, missing):
+            self.assertNotEqual(list(faults_of_imports({name: ast.parse(text) for name, text in sources.items()})), [])
+        self.assertEqual(list(faults_of_imports({name: ast.parse(text) for name, text in right.items()})), [])
 
 
 if __name__ == "__main__":
