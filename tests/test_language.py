@@ -31,6 +31,7 @@ register mro elements open input version_info with_traceback add_note attrgetter
 credits delattr dir eval exec exit gc getattr globals hasattr help id importlib license locals methodcaller os quit
 setattr super type vars sys format format_map args encode sort
 """.split()
+CHANGING = "items keys values pop update append clear extend insert remove reverse setdefault sort args".split()
 WORDS = re.compile(
     r"\b(type|typing|typing_extensions|enum|Enum|IntEnum|StrEnum|Flag|IntFlag|Generic|Protocol|ABC|ABCMeta|namedtuple"
     r"|NamedTuple|TypedDict|TYPE_CHECKING|abstractmethod)\b|dataclass|overload|contextmanager"
@@ -102,6 +103,25 @@ def faults_of_imports(trees):
 def defined_in(tree):
     names = [node.name for node in tree.body if isinstance(node, (ast.FunctionDef, ast.ClassDef))]
     return names + [node.targets[0].id for node in tree.body if isinstance(node, ast.Assign)]
+
+
+def faults_of_classes(trees):
+    """L18, L28: no method stands twice, no name is both a method and a value, and `__init__` gives back nothing."""
+    methods = []
+    values = []
+    for tree in trees:
+        for node in [node for node in ast.walk(tree) if isinstance(node, ast.ClassDef)]:
+            own = [part.name for part in node.body if isinstance(part, ast.FunctionDef)]
+            methods.extend(own)
+            if len(set(own)) < len(own):
+                yield "L18 method twice in " + node.name
+            for part in node.body:
+                if isinstance(part, ast.FunctionDef) and part.name == "__init__":
+                    yield from ("L28 " + node.name for inner in ast.walk(part) if isinstance(inner, ast.Return))
+        values.extend(node.attr for node in ast.walk(tree)
+                      if isinstance(node, ast.Attribute) and isinstance(node.ctx, ast.Store))
+    yield from ("L18 " + name for name in values if name in methods)
+    yield from ("L26 " + name for name in values if name in CHANGING)
 
 
 def is_text(node):
@@ -196,6 +216,10 @@ class Package(unittest.TestCase):
         trees = {path.name: ast.parse(path.read_text(encoding="utf-8")) for path in PACKAGE.glob("*.py")}
         self.assertEqual(list(faults_of_imports(trees)), [])
 
+    def test_classes(self):
+        trees = [ast.parse(path.read_text(encoding="utf-8")) for path in PACKAGE.glob("*.py")]
+        self.assertEqual(list(faults_of_classes(trees)), [])
+
 
 class Check(unittest.TestCase):
     def test_lets_by(self):
@@ -244,6 +268,18 @@ class Check(unittest.TestCase):
         for sources in (ring, borrowed, missing):
             self.assertNotEqual(list(faults_of_imports({name: ast.parse(text) for name, text in sources.items()})), [])
         self.assertEqual(list(faults_of_imports({name: ast.parse(text) for name, text in right.items()})), [])
+
+    def test_finds_in_classes(self):
+        one = "class One:\n    def __init__(self, rows):\n        self.kept = rows"
+        other = "class Other:\n    def rows(self):\n        return []"
+        wrong = [
+            [one, other.replace("rows", "kept")], [one + "\n        return None"], [other + other[12:]],
+            [one.replace("kept", "update")],
+        ]
+        for sources in wrong:
+            with self.subTest(sources):
+                self.assertNotEqual(list(faults_of_classes([ast.parse(source) for source in sources])), [])
+        self.assertEqual(list(faults_of_classes([ast.parse(one), ast.parse(other)])), [])
 
 
 if __name__ == "__main__":
